@@ -191,7 +191,7 @@ func TestReadInvertsBytes(t *testing.T) { // P14.5
 
 func TestReadAttributesAreValid(t *testing.T) { // P14.5
 	rng := rand.New(rand.NewSource(2))
-	for range 20000 {
+	for range 5000 {
 		var b []byte
 		for range rng.Intn(5) {
 			n := rng.Intn(9)
