@@ -4,6 +4,7 @@ import (
 	"bytes"
 	"math"
 	"slices"
+	"strconv"
 	"testing"
 
 	"peerage/flag"
@@ -37,7 +38,10 @@ func TestClassAndName(t *testing.T) { // P10.1
 		if class, ok := flag.Class(kind); class != k.class || ok != want {
 			t.Error(kind, class, ok)
 		}
-		if want && flag.Name(kind) != k.name {
+		if !want {
+			k.name = "TYPE " + strconv.Itoa(kind)
+		}
+		if flag.Name(kind) != k.name {
 			t.Error(kind, flag.Name(kind))
 		}
 	}

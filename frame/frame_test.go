@@ -75,6 +75,7 @@ func TestSplit(t *testing.T) { // P23.1 and P23.3
 		{plain, cat(keep, []byte{254}, keep), append(frames(keep), failure(1, 0))},
 		{plain, cat(keep[:15], []byte{0}, keep), []frame.Event{failure(1, 15)}},
 		{plain, cat(keep[:7], []byte{0}), []frame.Event{failure(1, 7)}},
+		{plain, cat(keep[:15], []byte{0}), []frame.Event{failure(1, 15)}},
 		{plain, cat(wire(4, 18), keep), []frame.Event{failure(2, 16, 0, 18)}},
 		{plain, cat(update, wire(9, 19), keep), append(frames(update), failure(3, 18, 9))},
 		{plain, wire(4, 20), []frame.Event{failure(2, 16, 0, 20)}},

@@ -164,6 +164,7 @@ func TestText(t *testing.T) { // P12.4
 		{unreach(2), "unreach ipv6"},
 		{unreach(1, route(0, "10.0.0.0/8"), route(7, "0.0.0.0/0")), "unreach ipv4 10.0.0.0/8 0.0.0.0/0#7"},
 		{reach(1, hop4), "reach ipv4 0a000001"},
+		{unreach(2, route(7, "0:0:0:0:0:0:0:0/0")), "unreach ipv6 0:0:0:0:0:0:0:0/0#7"},
 		{reach(2, hop16, route(0, "1:0:0:0:0:0:0:0/16")), "reach ipv6 fefefefefefefefefefefefefefefefe 1:0:0:0:0:0:0:0/16"},
 		{reach(1, hop16), ""}, {unreach(0), ""}, {unreach(1, route(0, "1:0:0:0:0:0:0:0/16")), ""}, {api.Attr{Type: 1}, ""}, {api.Attr{Type: 15, Fam: 1, Partial: true}, ""},
 	} {

@@ -53,6 +53,8 @@ func TestParseAccepts(t *testing.T) { // P17.2
 	}{
 		{cat(fixed, []byte{0}), open.Open{AS: 1, Hold: 90, ID: 5}},
 		{[]byte{4, 255, 255, 0, 0, 255, 0, 0, 0, 0}, open.Open{AS: 65535, ID: 0xff000000}},
+		{[]byte{4, 0, 1, 0, 3, 0, 0, 0, 5, 0}, open.Open{AS: 1, Hold: 3, ID: 5}},
+		{[]byte{4, 0, 1, 255, 255, 0, 0, 0, 5, 0}, open.Open{AS: 1, Hold: 65535, ID: 5}},
 		{cat(fixed, []byte{2, 2, 0}), open.Open{AS: 1, Hold: 90, ID: 5}},
 		{cat(fixed, []byte{4, 2, 2, 2, 0}), open.Open{AS: 1, Hold: 90, ID: 5, Caps: caps{cp(2)}}},
 		{cat(fixed, []byte{12, 2, 2, 2, 0, 2, 0, 2, 4, 9, 0, 8, 0}), open.Open{AS: 1, Hold: 90, ID: 5, Caps: caps{cp(2), cp(9), cp(8)}}},
